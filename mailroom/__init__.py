@@ -1,0 +1,1 @@
+"""Mailroom: letters, rules, folders, threads, and hands that work apart."""

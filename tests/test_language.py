@@ -1,0 +1,236 @@
+"""The package keeps to LANGUAGE.md, as far as a reading of its files can tell."""
+
+import ast
+import pathlib
+import re
+import unittest
+
+PACKAGE = pathlib.Path(__file__).resolve().parent.parent / "mailroom"
+
+NODES = (
+    ast.Module, ast.Expr, ast.Import, ast.ImportFrom, ast.alias, ast.FunctionDef, ast.ClassDef, ast.arguments, ast.arg,
+    ast.Return, ast.Assign, ast.AugAssign, ast.If, ast.While, ast.For, ast.Break, ast.Continue, ast.Pass, ast.Raise,
+    ast.Try, ast.ExceptHandler, ast.BoolOp, ast.boolop, ast.BinOp, ast.operator, ast.UnaryOp, ast.unaryop, ast.Lambda,
+    ast.IfExp, ast.Dict, ast.Set, ast.ListComp, ast.comprehension, ast.Compare, ast.cmpop, ast.Call, ast.keyword,
+    ast.JoinedStr, ast.FormattedValue, ast.Constant, ast.Attribute, ast.Subscript, ast.Slice, ast.Name, ast.List,
+    ast.Tuple, ast.expr_context,
+)
+OWN_NAMES = """
+len range enumerate zip min max sum abs sorted reversed int str bool list tuple dict set frozenset isinstance ord repr
+any all divmod Exception ValueError TypeError KeyError IndexError LookupError ZeroDivisionError ArithmeticError
+OverflowError RuntimeError NotImplementedError AttributeError StopIteration
+""".split()
+OWN_METHODS = """
+append clear copy count endswith extend find get index insert isalnum isalpha isdigit islower isspace isupper items
+join keys ljust lower lstrip partition pop remove replace reverse rfind rjust rpartition rsplit rstrip setdefault split
+splitlines startswith strip update upper values zfill bit_length
+""".split()
+UNDERSCORED = ["__init__", "__eq__", "__repr__", "__str__", "__len__"]
+UNUSED_NAMES = """
+register mro elements open input version_info with_traceback add_note format format_map sort encode args
+""".split()
+UNUSED_WORDS = """
+type typing typing_extensions enum Enum IntEnum StrEnum Flag IntFlag Generic Protocol ABC ABCMeta namedtuple NamedTuple
+TypedDict TYPE_CHECKING abstractmethod
+""".split()
+PLAIN_NAME = re.compile("[A-Za-z][A-Za-z0-9_]*")
+
+
+def package_files():
+    return sorted(path for path in PACKAGE.rglob("*") if path.is_file() and "__pycache__" not in path.parts)
+
+
+def bound_names(tree):
+    """All names that are bound anywhere in a file."""
+    names = []
+    for node in ast.walk(tree):
+        if isinstance(node, (ast.FunctionDef, ast.ClassDef)):
+            names.append(node.name)
+        elif isinstance(node, ast.arg):
+            names.append(node.arg)
+        elif isinstance(node, ast.alias):
+            names.append(node.asname or node.name)
+        elif isinstance(node, ast.ExceptHandler) and node.name:
+            names.append(node.name)
+        elif isinstance(node, ast.Name) and isinstance(node.ctx, ast.Store):
+            names.append(node.id)
+    return names
+
+
+def is_plain_value(node):
+    if isinstance(node, (ast.List, ast.Tuple)):
+        return all(is_plain_value(part) for part in node.elts)
+    if isinstance(node, ast.Dict):
+        return all(is_plain_value(part) for part in node.keys + node.values)
+    if isinstance(node, ast.UnaryOp) and isinstance(node.op, ast.USub):
+        return isinstance(node.operand, ast.Constant)
+    return isinstance(node, (ast.Constant, ast.Name))
+
+
+def top_faults(tree):
+    """L2, L3, L16: what may stand at the top of a file."""
+    for place, node in enumerate(tree.body):
+        if isinstance(node, ast.Expr) and isinstance(node.value, ast.Constant):
+            if place != 0:
+                yield node, "L3: a text by itself"
+        elif isinstance(node, ast.ImportFrom):
+            whole = (node.module or "").startswith("mailroom.") and node.level == 0
+            if not whole or any(name.name == "*" or name.asname for name in node.names):
+                yield node, "L2, L16: an import of another form"
+        elif isinstance(node, ast.Assign):
+            if not is_plain_value(node.value):
+                yield node, "L3: no plain value"
+        elif not isinstance(node, (ast.FunctionDef, ast.ClassDef)):
+            yield node, "L3: a statement at the top"
+
+
+def statement_faults(node):
+    """L4 to L7, L19 to L21: the forms of statements and expressions."""
+    if not isinstance(node, NODES) or isinstance(node, (ast.Div, ast.MatMult)):
+        yield "L6, L7: a form that is not used"
+    if isinstance(node, (ast.FunctionDef, ast.ClassDef)) and node.decorator_list:
+        yield "L4, L5: a decorator"
+    if isinstance(node, ast.arguments) and (node.vararg or node.kwarg or node.kwonlyargs or node.posonlyargs):
+        yield "L4: no plain parameters"
+    if isinstance(node, ast.ClassDef):
+        if len(node.bases) > 1 or node.keywords:
+            yield "L5: more than one base"
+        if not all(isinstance(part, (ast.FunctionDef, ast.Pass)) for part in node.body):
+            yield "L5: a value in a class"
+    if isinstance(node, ast.Assign) and len(node.targets) != 1:
+        yield "L6: more than one target"
+    if isinstance(node, ast.Try) and node.finalbody or isinstance(node, (ast.For, ast.While)) and node.orelse:
+        yield "L6: finally, or else behind a loop"
+    if isinstance(node, ast.ExceptHandler):
+        if node.type is None or getattr(node.type, "id", "") in ("Exception", "TypeError"):
+            yield "L19: an error that is not named"
+    if isinstance(node, ast.ListComp) and (len(node.generators) != 1 or len(node.generators[0].ifs) > 1):
+        yield "L7: more than one for or if"
+    if isinstance(node, ast.Constant) and isinstance(node.value, (float, bytes, complex)):
+        yield "L7: a float or bytes"
+    if isinstance(node, ast.Constant) and isinstance(node.value, str) and "%" in node.value:
+        yield "L27: a percent sign"
+    if isinstance(node, ast.FormattedValue) and (node.format_spec or not isinstance(node.value, ast.Name)):
+        yield "L7: more than a name in an f-string"
+    if isinstance(node, ast.Compare) and any(isinstance(sign, (ast.Is, ast.IsNot)) for sign in node.ops):
+        if not isinstance(node.comparators[-1], ast.Constant):
+            yield "L20: is beside another value"
+    if isinstance(node, ast.arg) and node.annotation or isinstance(node, ast.FunctionDef) and node.returns:
+        yield "L21: an annotation"
+
+
+def name_faults(node, bound, package_names):
+    """L8, L12, L15, L17, L25: the names."""
+    if isinstance(node, ast.Name) and isinstance(node.ctx, ast.Load):
+        if node.id not in bound and node.id not in OWN_NAMES:
+            yield f"L8: the name {node.id}"
+    if isinstance(node, ast.Attribute):
+        if node.attr not in package_names and node.attr not in OWN_METHODS + UNDERSCORED:
+            yield f"L25: the method {node.attr}"
+        if node.attr in UNUSED_NAMES:
+            yield f"L17: the name {node.attr}"
+    if isinstance(node, ast.Call) and isinstance(node.func, ast.Attribute) and node.func.attr in OWN_METHODS:
+        if node.keywords:
+            yield "L22: a keyword at a method of Python's own"
+
+
+def bound_faults(name):
+    if name in UNDERSCORED:
+        return
+    if not PLAIN_NAME.fullmatch(name):
+        yield f"L12: the name {name}"
+    if name in UNUSED_NAMES or name in OWN_NAMES:
+        yield f"L8, L15, L17: the name {name}"
+
+
+def size_faults(text, tree):
+    """L10, L14: sizes and signs."""
+    rows = text.split("\n")
+    if len(rows) > 401:
+        yield "L10: more than 400 rows"
+    if any(len(row) > 120 for row in rows):
+        yield "L10: a row of more than 120 signs"
+    if re.search("[^ -~\n]", text):
+        yield "L14: a sign that is not used"
+    for node in ast.walk(tree):
+        if isinstance(node, ast.FunctionDef) and node.end_lineno - node.lineno >= 40:
+            yield f"L10: {node.name} has more than 40 rows"
+    for word in UNUSED_WORDS:
+        if re.search(f"\\b{word}\\b", text):
+            yield f"L17: the word {word}"
+    if re.search("dataclass|overload|contextmanager", text):
+        yield "L17: a word within others"
+
+
+def own_attributes(trees):
+    names = []
+    for tree in trees:
+        names.extend(bound_names(tree))
+        for node in ast.walk(tree):
+            if isinstance(node, ast.Attribute) and isinstance(node.ctx, ast.Store):
+                names.append(node.attr)
+    return set(names)
+
+
+def faults_of(text, package_names):
+    tree = ast.parse(text)
+    bound = set(bound_names(tree))
+    told = list(size_faults(text, tree))
+    told.extend(f"{node.lineno}: {fault}" for node, fault in top_faults(tree))
+    for name in sorted(bound):
+        told.extend(bound_faults(name))
+    for node in ast.walk(tree):
+        row = getattr(node, "lineno", 0)
+        told.extend(f"{row}: {fault}" for fault in statement_faults(node))
+        told.extend(f"{row}: {fault}" for fault in name_faults(node, bound, package_names))
+    return told
+
+
+def methods_and_values(trees):
+    methods = set()
+    values = set()
+    for tree in trees:
+        for node in ast.walk(tree):
+            if isinstance(node, ast.ClassDef):
+                methods.update(part.name for part in node.body if isinstance(part, ast.FunctionDef))
+            if isinstance(node, ast.Attribute) and isinstance(node.ctx, ast.Store):
+                values.add(node.attr)
+    return methods, values
+
+
+class LanguageTest(unittest.TestCase):
+
+    def test_only_files_of_plain_names(self):
+        for path in package_files():
+            with self.subTest(str(path)):
+                self.assertRegex(path.name, r"\A([a-z][a-z0-9_]*|__init__)\.py\Z")
+        self.assertIn(PACKAGE / "__init__.py", package_files())
+
+    def test_every_file_keeps_to_the_language(self):
+        texts = {path: path.read_text(encoding="utf-8") for path in package_files()}
+        package_names = own_attributes([ast.parse(text) for text in texts.values()])
+        for path, text in texts.items():
+            with self.subTest(path.name):
+                self.assertEqual(faults_of(text, package_names), [])
+
+    def test_no_name_is_a_method_and_a_value(self):
+        trees = [ast.parse(path.read_text(encoding="utf-8")) for path in package_files()]
+        methods, values = methods_and_values(trees)
+        self.assertEqual(methods & values, set())
+
+    def test_forms_outside_the_language_are_seen(self):
+        for text in (
+            "import os\n", "from .words import is_word\n", "from mailroom.words import *\n", "A = 'a' + 'b'\n",
+            "def f(*rest):\n    return rest\n", "def f(a):\n    return a / 2\n", "def f(a):\n    return {b for b in a}\n",
+            "def f(a):\n    return (b for b in a)\n", "def f(a):\n    with a:\n        pass\n", "A = 1.5\n",
+            "def f(a):\n    return a.title()\n", "def f(a):\n    return hash(a)\n", "class A:\n    b = 1\n",
+            "def f(a: int):\n    return a\n", "def _f(a):\n    return a\n", "def f(list):\n    return list\n",
+            "def f(a, b):\n    return a is b\n", "def f(a):\n    return f'{a + 1}'\n", "A = 'a%'\n", "# enum\n",
+            "def f(a):\n    try:\n        return a[0]\n    except Exception:\n        return 0\n", "A = '\u00e4'\n",
+        ):
+            with self.subTest(text):
+                self.assertNotEqual(faults_of(text, set()), [])
+
+
+if __name__ == "__main__":
+    unittest.main()
