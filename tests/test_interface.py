@@ -1,7 +1,7 @@
 import inspect
 import unittest
 
-from mailroom import cards, letters, words
+from mailroom import cards, conditions, letters, reading, rules, threads, words
 
 ARGUMENTS = [
     (words.is_word, "(thing)"),
@@ -18,6 +18,29 @@ ARGUMENTS = [
     (cards.Card.placed, "(self, folder)"),
     (cards.Card.signed, "(self, word)"),
     (cards.Card.unsigned, "(self, word)"),
+    (conditions.Condition.holds, "(self, card, others)"),
+    (conditions.Condition.tree, "(self)"),
+    (conditions.Condition.written, "(self)"),
+    (conditions.condition_of, "(tree)"),
+    (reading.read_condition, "(text)"),
+    (reading.read_rules, "(text)"),
+    (rules.Rules, "(rows)"),
+    (rules.Rules.rows, "(self)"),
+    (rules.Rules.outcome, "(self, card, others)"),
+    (rules.Rules.met, "(self, card, others)"),
+    (rules.Rules.written, "(self)"),
+    (threads.Threads, "()"),
+    (threads.Threads.add, "(self, name, answers='')"),
+    (threads.Threads.take_out, "(self, name)"),
+    (threads.Threads.names, "(self)"),
+    (threads.Threads.thread, "(self, name)"),
+    (threads.Threads.answers_to, "(self, name)"),
+    (threads.Threads.threads, "(self)"),
+    (threads.Threads.depth, "(self, name)"),
+]
+TREES = [
+    ("any",), ("word", "a"), ("title", "a"), ("from", "a"), ("day", 1, 2), ("in", "a"), ("marked", "a"), ("answers",),
+    ("not", ("any",)), ("both", ("any",), ("any",)), ("either", ("any",), ("any",)), ("thread", ("any",)),
 ]
 
 
@@ -27,6 +50,14 @@ class InterfaceTest(unittest.TestCase):
         for thing, wanted in ARGUMENTS:
             with self.subTest(thing.__qualname__):
                 self.assertEqual(str(inspect.signature(thing)), wanted)
+
+    def test_the_arguments_of_each_form_of_a_condition(self):
+        for tree in TREES:
+            with self.subTest(tree):
+                condition = conditions.condition_of(tree)
+                self.assertEqual(str(inspect.signature(condition.holds)), "(card, others)")
+                self.assertEqual(str(inspect.signature(condition.tree)), "()")
+                self.assertEqual(str(inspect.signature(condition.written)), "()")
 
 
 if __name__ == "__main__":

@@ -143,6 +143,21 @@ def bound_faults(name):
         yield f"L8, L15, L17: the name {name}"
 
 
+def local_faults(tree):
+    """L15: no parameter and no local is called like a class or an import of its file."""
+    taken = set()
+    for node in tree.body:
+        if isinstance(node, ast.ClassDef):
+            taken.add(node.name)
+        elif isinstance(node, ast.ImportFrom):
+            taken.update(name.name for name in node.names)
+    for node in ast.walk(tree):
+        if isinstance(node, ast.arg) and node.arg in taken:
+            yield f"L15: the parameter {node.arg}"
+        elif isinstance(node, ast.Name) and isinstance(node.ctx, ast.Store) and node.id in taken:
+            yield f"L15: the local {node.id}"
+
+
 def size_faults(text, tree):
     """L10, L14: sizes and signs."""
     rows = text.split("\n")
@@ -175,7 +190,7 @@ def own_attributes(trees):
 def faults_of(text, package_names):
     tree = ast.parse(text)
     bound = set(bound_names(tree))
-    told = list(size_faults(text, tree))
+    told = list(size_faults(text, tree)) + list(local_faults(tree))
     told.extend(f"{node.lineno}: {fault}" for node, fault in top_faults(tree))
     for name in sorted(bound):
         told.extend(bound_faults(name))
@@ -198,6 +213,32 @@ def methods_and_values(trees):
     return methods, values
 
 
+def bound_at_top(tree):
+    names = []
+    for node in tree.body:
+        if isinstance(node, (ast.FunctionDef, ast.ClassDef)):
+            names.append(node.name)
+        elif isinstance(node, ast.Assign):
+            names.append(node.targets[0].id)
+    return names
+
+
+def drawn_from(tree):
+    return [node.module for node in tree.body if isinstance(node, ast.ImportFrom)]
+
+
+def reached(name, draws):
+    """All files that a file draws from, in whatever many steps."""
+    found = list(draws[name])
+    for one in found:
+        found.extend(other for other in draws.get(one, []) if other not in found)
+    return found
+
+
+def package_trees():
+    return {f"mailroom.{path.stem}": ast.parse(path.read_text(encoding="utf-8")) for path in package_files()}
+
+
 class LanguageTest(unittest.TestCase):
 
     def test_only_files_of_plain_names(self):
@@ -214,19 +255,37 @@ class LanguageTest(unittest.TestCase):
                 self.assertEqual(faults_of(text, package_names), [])
 
     def test_no_name_is_a_method_and_a_value(self):
-        trees = [ast.parse(path.read_text(encoding="utf-8")) for path in package_files()]
-        methods, values = methods_and_values(trees)
+        methods, values = methods_and_values(package_trees().values())
         self.assertEqual(methods & values, set())
+
+    def test_no_two_files_draw_from_one_another(self):
+        draws = {name: drawn_from(tree) for name, tree in package_trees().items()}
+        for name in draws:
+            with self.subTest(name):
+                self.assertNotIn(name, reached(name, draws))
+
+    def test_names_are_drawn_from_the_file_that_defines_them(self):
+        trees = package_trees()
+        for name, tree in trees.items():
+            for node in tree.body:
+                if isinstance(node, ast.ImportFrom):
+                    own = bound_at_top(trees[node.module])
+                    for drawn in node.names:
+                        with self.subTest(file=name, drawn=drawn.name):
+                            self.assertIn(drawn.name, own)
 
     def test_forms_outside_the_language_are_seen(self):
         for text in (
             "import os\n", "from .words import is_word\n", "from mailroom.words import *\n", "A = 'a' + 'b'\n",
-            "def f(*rest):\n    return rest\n", "def f(a):\n    return a / 2\n", "def f(a):\n    return {b for b in a}\n",
-            "def f(a):\n    return (b for b in a)\n", "def f(a):\n    with a:\n        pass\n", "A = 1.5\n",
-            "def f(a):\n    return a.title()\n", "def f(a):\n    return hash(a)\n", "class A:\n    b = 1\n",
-            "def f(a: int):\n    return a\n", "def _f(a):\n    return a\n", "def f(list):\n    return list\n",
-            "def f(a, b):\n    return a is b\n", "def f(a):\n    return f'{a + 1}'\n", "A = 'a%'\n", "# enum\n",
+            "def f(*rest):\n    return rest\n", "def f(a):\n    return a / 2\n",
+            "def f(a):\n    return {b for b in a}\n", "def f(a):\n    return (b for b in a)\n",
+            "def f(a):\n    with a:\n        pass\n", "A = 1.5\n", "def f(a):\n    return a.title()\n",
+            "def f(a):\n    return hash(a)\n", "class A:\n    b = 1\n", "def f(a: int):\n    return a\n",
+            "def _f(a):\n    return a\n", "def f(list):\n    return list\n", "def f(a, b):\n    return a is b\n",
+            "def f(a):\n    return f'{a + 1}'\n", "A = 'a%'\n", "# enum\n",
             "def f(a):\n    try:\n        return a[0]\n    except Exception:\n        return 0\n", "A = '\u00e4'\n",
+            "class A:\n    pass\n\n\ndef f(A):\n    return A\n",
+            "from mailroom.words import is_word\n\n\ndef f():\n    is_word = 1\n    return is_word\n",
         ):
             with self.subTest(text):
                 self.assertNotEqual(faults_of(text, set()), [])
