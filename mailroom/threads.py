@@ -1,6 +1,6 @@
 """Threads: names, each with the name that it answers, and which of them hang together."""
 
-from mailroom.errors import NoName
+from mailroom.names import check_new, check_there
 
 
 class Threads:
@@ -10,14 +10,8 @@ class Threads:
         # Of each name that is answered, there or not, the names there that answer it, as keys.
         self.replies = {}
 
-    def check_there(self, name):
-        if name not in self.links:
-            raise NoName(f"{name!r} is not there")
-
     def add(self, name, answers=""):
-        # What is no text is never there, so it can't come to be there.
-        if not isinstance(name, str) or name in self.links:
-            raise NoName(f"{name!r} can't be added")
+        check_new(name, self.links)
         self.links[name] = answers
         if answers != "":
             if answers not in self.replies:
@@ -25,7 +19,7 @@ class Threads:
             self.replies[answers][name] = True
 
     def take_out(self, name):
-        self.check_there(name)
+        check_there(name, self.links)
         answers = self.links.pop(name)
         if answers != "":
             self.replies[answers].pop(name)
@@ -46,7 +40,7 @@ class Threads:
         return near
 
     def thread(self, name):
-        self.check_there(name)
+        check_there(name, self.links)
         reached = {name: True}
         waiting = [name]
         while waiting:
@@ -70,7 +64,7 @@ class Threads:
         return told
 
     def depth(self, name):
-        self.check_there(name)
+        check_there(name, self.links)
         met = {name: True}
         above = self.links[name]
         while above in self.links and above not in met:

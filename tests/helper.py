@@ -36,6 +36,32 @@ class LikeAll:
 
 NO_TEXTS.append(LikeAll())
 
+# As names these are never there.
+NO_NAMES = [None, 0, 1, -1, 12, 10 ** 5000, True, False]
+
+
+def assert_refused(case, error, ask, *given):
+    """Refused by that very class."""
+    with case.assertRaises(error) as caught:
+        ask(*given)
+    case.assertIs(type(caught.exception), error)
+
+
+def spoil(told):
+    """Changes all that a list or dict holds, and adds to it, as its owner may."""
+    if isinstance(told, dict):
+        for key in list(told):
+            told[key] = 99
+        told["more"] = 99
+        return
+    for k, part in enumerate(told):
+        if isinstance(part, (list, dict)):
+            spoil(part)
+        else:
+            told[k] = "spoilt"
+    told.append("more")
+    told.reverse()
+
 
 @contextlib.contextmanager
 def few_calls(most=250):

@@ -1,7 +1,7 @@
 import inspect
 import unittest
 
-from mailroom import cards, conditions, letters, reading, rules, threads, words
+from mailroom import cards, conditions, deeds, folders, index, ledgers, letters, reading, rules, threads, words
 
 ARGUMENTS = [
     (words.is_word, "(thing)"),
@@ -37,6 +37,33 @@ ARGUMENTS = [
     (threads.Threads.answers_to, "(self, name)"),
     (threads.Threads.threads, "(self)"),
     (threads.Threads.depth, "(self, name)"),
+    (index.Index, "()"),
+    (index.Index.add, "(self, name, words)"),
+    (index.Index.take_out, "(self, name)"),
+    (index.Index.having, "(self, word)"),
+    (index.Index.words, "(self, name)"),
+    (index.Index.all_words, "(self)"),
+    (folders.Folders, "()"),
+    (folders.Folders.add, "(self, name, folder='inbox', marks=None)"),
+    (folders.Folders.take_out, "(self, name)"),
+    (folders.Folders.place, "(self, name, folder)"),
+    (folders.Folders.mark, "(self, name, word)"),
+    (folders.Folders.unmark, "(self, name, word)"),
+    (folders.Folders.folder, "(self, name)"),
+    (folders.Folders.marks, "(self, name)"),
+    (folders.Folders.counts, "(self, folder)"),
+    (folders.Folders.marked, "(self, folder, word)"),
+    (folders.Folders.names, "(self, folder)"),
+    (folders.Folders.folders, "(self)"),
+    (deeds.is_deed, "(thing)"),
+    (deeds.is_stamped, "(thing)"),
+    (deeds.stamp_of, "(stamped)"),
+    (deeds.is_hand, "(thing)"),
+    (ledgers.Ledger, "(hand)"),
+    (ledgers.Ledger.do, "(self, deed)"),
+    (ledgers.Ledger.have, "(self)"),
+    (ledgers.Ledger.told, "(self, have=None)"),
+    (ledgers.Ledger.take, "(self, parcel)"),
 ]
 TREES = [
     ("any",), ("word", "a"), ("title", "a"), ("from", "a"), ("day", 1, 2), ("in", "a"), ("marked", "a"), ("answers",),

@@ -2,11 +2,9 @@ import itertools
 import random
 import unittest
 
-from helper import few_calls
+from helper import NO_NAMES, assert_refused, few_calls
 from mailroom.errors import NoName
 from mailroom.threads import Threads
-
-NO_NAMES = [None, 0, 1, -1, 12, True, False]
 
 
 class Plainly:
@@ -74,6 +72,14 @@ class NamesTest(ThreadsCase):
         self.assertEqual(made.threads(), [["ann1"]])
         self.assertEqual(made.depth("ann1"), 0)
         self.assertEqual(made.answers_to("ann1"), [])
+
+    def test_two_that_answer_none(self):
+        made = Threads()
+        made.add("ann1")
+        made.add("ann2")
+        made.add("ann3", "")
+        self.assert_plainly(made, {"ann1": "", "ann2": "", "ann3": ""})
+        self.assertEqual(made.threads(), [["ann1"], ["ann2"], ["ann3"]])
 
     def test_names_rise_as_texts(self):
         made = threads_of({"b": "", "ann2": "", "ann10": "", "0": "ann2", "ann1": "b", "ann": "ann2", "z" * 20: ""})
@@ -290,8 +296,7 @@ class RefusedTest(ThreadsCase):
     LINKS = {"a": "", "b": "a", "c": "x", "d": "d"}
 
     def assert_refused(self, made, ask, *given):
-        with self.assertRaises(NoName):
-            ask(*given)
+        assert_refused(self, NoName, ask, *given)
         self.assert_plainly(made, self.LINKS, ["x", "y", "e"])
 
     def test_add_of_a_name_that_is_there(self):
@@ -319,6 +324,25 @@ class RefusedTest(ThreadsCase):
         made.take_out("e")
         for ask in (made.take_out, made.thread, made.depth):
             self.assert_refused(made, ask, "e")
+
+    def test_a_name_that_is_only_answered(self):
+        made = threads_of(self.LINKS)
+        for ask in (made.take_out, made.thread, made.depth):
+            self.assert_refused(made, ask, "x")
+        made.add("x", "b")
+        self.assert_plainly(made, {**self.LINKS, "x": "b"}, ["y"])
+        self.assertEqual(made.thread("x"), ["a", "b", "c", "x"])
+
+    def test_what_makes_good_what_was_refused(self):
+        made = threads_of(self.LINKS)
+        self.assert_refused(made, made.add, "b", "d")
+        made.take_out("b")
+        made.add("b", "d")
+        self.assert_plainly(made, {**self.LINKS, "b": "d"}, ["x"])
+        assert_refused(self, NoName, made.take_out, "e")
+        made.add("e", "c")
+        made.take_out("e")
+        self.assert_plainly(made, {**self.LINKS, "b": "d"}, ["x", "e"])
 
     def test_answers_to_names_that_are_not_there(self):
         made = threads_of(self.LINKS)
