@@ -1,13 +1,11 @@
 """Cards: letters with a folder and marks."""
 
-from mailroom.letters import letter_of
-
 
 class Card:
 
     def __init__(self, letter, folder="inbox", marks=None):
         # A letter of the card's own: the one that is handed in stays its owner's.
-        self.letter = letter_of(letter.parts())
+        self.letter = letter.twin()
         self.box = folder
         self.signs = [] if marks is None else sorted(set(marks))
 

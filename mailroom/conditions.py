@@ -31,13 +31,13 @@ class Always(Condition):
 class HasWord(Condition):
 
     def holds(self, card, others):
-        return self.shape[1] in card.letter.words()
+        return self.shape[1] in card.letter.known()
 
 
 class HasTitleWord(Condition):
 
     def holds(self, card, others):
-        return self.shape[1] in card.letter.title_words()
+        return card.letter.known().get(self.shape[1], False)
 
 
 class IsFrom(Condition):

@@ -2,15 +2,22 @@
 
 
 class MailError(ValueError):
-    pass
+
+    # The refusal's name, by which it is told in a text.
+    def refusal(self):
+        return "MailError"
 
 
 class NoWord(MailError):
-    pass
+
+    def refusal(self):
+        return "NoWord"
 
 
 class NoLetter(MailError):
-    pass
+
+    def refusal(self):
+        return "NoLetter"
 
 
 class NoRule(MailError):
@@ -20,14 +27,23 @@ class NoRule(MailError):
         MailError.__init__(self, words)
         self.row = row
 
+    def refusal(self):
+        return "NoRule"
+
 
 class NoName(MailError):
-    pass
+
+    def refusal(self):
+        return "NoName"
 
 
 class NoParcel(MailError):
-    pass
+
+    def refusal(self):
+        return "NoParcel"
 
 
 class NoRow(MailError):
-    pass
+
+    def refusal(self):
+        return "NoRow"

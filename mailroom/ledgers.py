@@ -64,9 +64,9 @@ class Ledger:
             parcel.extend(self.shelves[hand][had.get(hand, 0):])
         return sorted(parcel, key=stamp_of)
 
-    def take(self, parcel):
+    # The shelves as they would be behind the parcel, and what is new in it; or the refusal, and nothing is kept.
+    def weighed(self, parcel):
         check_parcel(parcel)
-        # New shelves, which stand only when the whole parcel has been found sound.
         shelves = dict(self.shelves)
         fresh = []
         # By their numbers each deed comes behind those of its hand that it needs.
@@ -79,5 +79,9 @@ class Ledger:
                 fresh.append(stamped)
             elif stamped != shelf[stamped[2] - 1]:
                 raise NoParcel("two deeds of one hand and number that are not alike")
-        self.shelves = shelves
-        return sorted(fresh, key=stamp_of)
+        return (shelves, sorted(fresh, key=stamp_of))
+
+    def take(self, parcel):
+        weighed = self.weighed(parcel)
+        self.shelves = weighed[0]
+        return weighed[1]

@@ -1,7 +1,7 @@
 """Letters, their parts, and their texts."""
 
 from mailroom.errors import NoLetter
-from mailroom.words import FIGURES, all_among, each_once, is_word, words_of
+from mailroom.words import FIGURES, all_among, is_word, words_of
 
 MOST_TITLE = 60
 MOST_BODY = 400
@@ -50,16 +50,36 @@ class Letter:
         self.body = body
         self.day = day
         self.answers = answers
+        # The words, once they have been looked for: conditions ask for them again and again.
+        self.found = None
+
+    # A letter of the same parts, which need not look for its words anew.
+    def twin(self):
+        twin = Letter(self.sender, self.title, self.body, self.day, self.answers)
+        twin.found = self.found
+        return twin
 
     def parts(self):
         return (self.sender, self.title, self.body, self.day, self.answers)
 
-    # A word never goes on from the title into the body, so each is parted by itself.
+    # The words as keys, in their order, each with whether it is one of the title's.
+    def known(self):
+        if self.found is None:
+            found = {}
+            for word in words_of(self.title):
+                found[word] = True
+            # A word never goes on from the title into the body, so each is parted by itself.
+            for word in words_of(self.body):
+                found.setdefault(word, False)
+            self.found = found
+        return self.found
+
     def words(self):
-        return each_once(words_of(self.title) + words_of(self.body))
+        return list(self.known())
 
     def title_words(self):
-        return each_once(words_of(self.title))
+        known = self.known()
+        return [word for word in known if known[word]]
 
 
 def letter_of(thing):

@@ -6,6 +6,7 @@ import re
 import sys
 
 from mailroom.cards import Card
+from mailroom.errors import NoName
 from mailroom.letters import Letter
 
 # Things of every kind that are no text; truths and numbers among them.
@@ -108,6 +109,163 @@ def plainly_holds(tree, card, others):
         "marked": lambda: tree[1] in card.signs,
         "answers": lambda: letter.answers != "",
     }[kind]()
+
+
+def plainly_run(rows, card, others):
+    """What point 25 says, act by act: folder, marks, and the rows that were met."""
+    letter, folder, marks = card.letter, card.box, set(card.signs)
+    met = []
+    for place, (tree, acts) in enumerate(rows):
+        now = card_of(*letter.parts(), folder=folder, marks=marks)
+        if not plainly_holds(tree, now, others):
+            continue
+        met.append(place)
+        for act in acts:
+            if act == ("stop",):
+                return folder, sorted(marks), met
+            if act[0] == "place":
+                folder = act[1]
+            elif act[0] == "mark":
+                marks = marks | {act[1]}
+            else:
+                marks = marks - {act[1]}
+    return folder, sorted(marks), met
+
+
+class PlainThreads:
+    """What points 31 and 32 say, word by word, of a dict from names to what they answer."""
+
+    def __init__(self, links):
+        self.links = dict(links)
+
+    def hang(self, one, other):
+        answers = self.links
+        return answers[one] == other or answers[other] == one or answers[one] == answers[other] != ""
+
+    def thread(self, name):
+        found = [name]
+        for one in found:
+            found += [other for other in self.links if other not in found and self.hang(one, other)]
+        return sorted(found)
+
+    def threads(self):
+        return sorted(list(thread) for thread in {tuple(self.thread(name)) for name in self.links})
+
+    def answers_to(self, name):
+        return sorted(one for one in self.links if self.links[one] == name)
+
+    def depth(self, name):
+        way = [name]
+        while self.links[way[-1]] in self.links and self.links[way[-1]] not in way:
+            way.append(self.links[way[-1]])
+        return len(way) - 1
+
+
+class PlainRoom:
+    """What points 2, 41, 42, 61 and 64 say of stamped deeds, when they are looked at plainly."""
+
+    def __init__(self, deeds):
+        self.deeds = list(deeds)
+        dropped = [name for stamp, name, said in self.said("drop")]
+        self.letters = {name: said[0] for stamp, name, said in self.said("put") if name not in dropped}
+        self.cards = {}
+        for name, parts in self.letters.items():
+            self.cards[name] = card_of(*parts, folder=self.folder(name), marks=self.marks(name))
+        self.hung = PlainThreads({name: parts[4] for name, parts in self.letters.items()})
+
+    def said(self, kind):
+        """Tuples (stamp, name, all that the deed says behind its name) of the deeds of one kind."""
+        return [((clock, hand), deed[1], deed[2:]) for clock, hand, number, deed in self.deeds if deed[0] == kind]
+
+    def folder(self, name):
+        placed = [(stamp, said[0]) for stamp, one, said in self.said("place") if one == name]
+        return max(placed)[1] if placed else "inbox"
+
+    def marks(self, name):
+        given = [(stamp, said) for stamp, one, said in self.said("mark") if one == name]
+        words = {said[0] for stamp, said in given}
+        return sorted(word for word in words if max(one for one in given if one[1][0] == word)[1][1])
+
+    def words(self, name):
+        return re.findall("[a-z0-9]+", " ".join(self.letters[name][1:3]).lower())
+
+    def names_in(self, folder):
+        return sorted(name for name, card in self.cards.items() if card.box == folder)
+
+    def marked(self, folder, word):
+        return len([name for name in self.names_in(folder) if word in self.cards[name].signs])
+
+    def counts(self, folder):
+        return (len(self.names_in(folder)), len(self.names_in(folder)) - self.marked(folder, "seen"))
+
+    def folders(self):
+        return [(folder,) + self.counts(folder) for folder in sorted({card.box for card in self.cards.values()})]
+
+    def others(self, name):
+        return [self.cards[other] for other in self.hung.thread(name) if other != name]
+
+    def find(self, tree):
+        found = [name for name in self.cards if plainly_holds(tree, self.cards[name], self.others(name))]
+        return sorted(found, key=lambda name: (self.letters[name][3], name))
+
+
+# Conditions as they are told, and the trees that these texts stand for.
+ASKED = [
+    ("any", ("any",)), ("word rent", ("word", "rent")), ("title pay", ("title", "pay")), ("from bob", ("from", "bob")),
+    ("day 3 to 6", ("day", 3, 6)), ("in home", ("in", "home")), ("marked seen", ("marked", "seen")),
+    ("answers", ("answers",)), ("not in inbox", ("not", ("in", "inbox"))),
+    ("word rent and marked a", ("both", ("word", "rent"), ("marked", "a"))),
+    ("from cy or in work", ("either", ("from", "cy"), ("in", "work"))),
+    ("thread marked seen", ("thread", ("marked", "seen"))),
+    ("not thread (in home or thread not answers)",
+     ("not", ("thread", ("either", ("in", "home"), ("thread", ("not", ("answers",))))))),
+]
+FOLDERS = ["inbox", "home", "work", "nowhere"]
+WORDS = ["rent", "pay", "seen", "a", "b", "none"]
+
+
+def assert_tells(case, room, deeds, asked=ASKED):
+    """All that a room tells is what these deeds say plainly."""
+    plain = PlainRoom(deeds)
+    case.assertEqual(room.names(), sorted(plain.letters))
+    case.assertEqual(room.threads(), plain.hung.threads())
+    for name, card in plain.cards.items():
+        case.assertEqual(room.letter_at(name).parts(), plain.letters[name])
+        case.assertEqual(room.folder(name), card.box)
+        case.assertEqual(room.marks(name), card.signs)
+        case.assertEqual(state_of(room.card(name)), state_of(card))
+        case.assertEqual(room.thread(name), plain.hung.thread(name))
+    case.assertEqual(room.folders(), plain.folders())
+    for folder in FOLDERS:
+        case.assertEqual(room.counts(folder), plain.counts(folder))
+        case.assertEqual(room.names_in(folder), plain.names_in(folder))
+        for word in WORDS:
+            case.assertEqual(room.marked(folder, word), plain.marked(folder, word))
+    for word in WORDS:
+        case.assertEqual(room.having(word), sorted(name for name in plain.letters if word in plain.words(name)))
+    for text, tree in asked:
+        case.assertEqual(room.find(text), plain.find(tree), text)
+
+
+def assert_shows(case, board, deeds):
+    """All that a board tells is what these deeds say plainly."""
+    plain = PlainRoom(deeds)
+    hung, listed, boxed = board.hung, board.listed, board.boxed
+    case.assertEqual(board.names(), sorted(plain.letters))
+    case.assertEqual(hung.names(), sorted(plain.letters))
+    case.assertEqual(hung.threads(), plain.hung.threads())
+    for name, card in plain.cards.items():
+        case.assertEqual(board.letter_at(name).parts(), plain.letters[name])
+        case.assertEqual(state_of(board.card(name)), state_of(card))
+        case.assertEqual((boxed.folder(name), boxed.marks(name)), (card.box, card.signs))
+        case.assertEqual((hung.thread(name), hung.depth(name)), (plain.hung.thread(name), plain.hung.depth(name)))
+        case.assertEqual(hung.answers_to(name), plain.hung.answers_to(name))
+        case.assertEqual(listed.words(name), sorted(set(plain.words(name))))
+    case.assertEqual(listed.all_words(), sorted({word for name in plain.letters for word in plain.words(name)}))
+    case.assertEqual(boxed.folders(), plain.folders())
+    for name in {stamped[3][1] for stamped in deeds} - set(plain.letters):
+        for ask in (board.letter_at, board.card, hung.thread, listed.words, boxed.folder):
+            assert_refused(case, NoName, ask, name)
 
 
 LEAVES = [

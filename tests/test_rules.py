@@ -2,33 +2,12 @@ import itertools
 import random
 import unittest
 
-from helper import card_of, plainly_holds, random_tree, state_of
+from helper import card_of, plainly_run, random_tree, state_of
 from mailroom.conditions import condition_of
 from mailroom.reading import read_rules
 from mailroom.rules import Rules
 
 STOP = ("stop",)
-
-
-def plainly_run(rows, card, others):
-    """What point 25 says, act by act: folder, marks, and the rows that were met."""
-    letter, folder, marks = card.letter, card.box, set(card.signs)
-    met = []
-    for place, (tree, acts) in enumerate(rows):
-        now = card_of(*letter.parts(), folder=folder, marks=marks)
-        if not plainly_holds(tree, now, others):
-            continue
-        met.append(place)
-        for act in acts:
-            if act == STOP:
-                return folder, sorted(marks), met
-            if act[0] == "place":
-                folder = act[1]
-            elif act[0] == "mark":
-                marks = marks | {act[1]}
-            else:
-                marks = marks - {act[1]}
-    return folder, sorted(marks), met
 
 
 class RulesCase(unittest.TestCase):

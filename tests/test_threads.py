@@ -2,38 +2,9 @@ import itertools
 import random
 import unittest
 
-from helper import NO_NAMES, assert_refused, few_calls
+from helper import NO_NAMES, PlainThreads, assert_refused, few_calls
 from mailroom.errors import NoName
 from mailroom.threads import Threads
-
-
-class Plainly:
-    """What points 31 and 32 say, word by word, of a dict from names to what they answer."""
-
-    def __init__(self, links):
-        self.links = dict(links)
-
-    def hang(self, one, other):
-        answers = self.links
-        return answers[one] == other or answers[other] == one or answers[one] == answers[other] != ""
-
-    def thread(self, name):
-        found = [name]
-        for one in found:
-            found += [other for other in self.links if other not in found and self.hang(one, other)]
-        return sorted(found)
-
-    def threads(self):
-        return sorted(list(thread) for thread in {tuple(self.thread(name)) for name in self.links})
-
-    def answers_to(self, name):
-        return sorted(one for one in self.links if self.links[one] == name)
-
-    def depth(self, name):
-        way = [name]
-        while self.links[way[-1]] in self.links and self.links[way[-1]] not in way:
-            way.append(self.links[way[-1]])
-        return len(way) - 1
 
 
 def threads_of(links):
@@ -46,7 +17,7 @@ def threads_of(links):
 class ThreadsCase(unittest.TestCase):
 
     def assert_plainly(self, made, links, more=()):
-        plain = Plainly(links)
+        plain = PlainThreads(links)
         self.assertEqual(made.names(), sorted(links))
         self.assertEqual(made.threads(), plain.threads(), links)
         for name in links:
