@@ -23,7 +23,7 @@ def check_form(form, given):
     most = FORMS[form][1]
     if len(given) < least or (most is not None and len(given) > most):
         raise NoRow("a part lacks, or is too many")
-    if form == "put" and not (1 <= len(given[1]) <= DAY_FIGURES and all_among(given[1], FIGURES)):
+    if form == "put" and not (len(given[1]) <= DAY_FIGURES and all_among(given[1], FIGURES)):
         raise NoRow("the day is not told by one to four figures")
     if form in MEETING and not is_hand(given[0]):
         raise NoRow("the other is no hand")

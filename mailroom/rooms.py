@@ -137,8 +137,7 @@ class Room:
 def meet(one, other):
     for_one = other.told(one.have())
     for_other = one.told(other.have())
-    # Where one of them would refuse its parcel, the other is not to take its own either.
-    one.ledger.weighed(for_one)
+    # Where the other would refuse its parcel, one is not to take its own either.
     other.ledger.weighed(for_other)
     one.take(for_one)
     other.take(for_other)

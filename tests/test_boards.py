@@ -142,6 +142,17 @@ class ShownTest(BoardCase):
             assert_shows(self, board_of(list(order) + deeds), deeds)
 
 
+    def test_two_puts_of_one_name(self):
+        """No ledger has such; a board tells the greater, whichever comes first."""
+        deeds = [put(1, "ann1", title="First"), put(2, "ann1", "bob1", title="Second", body=""),
+                 deed(3, "ann", "mark", "ann1", "seen", True)]
+        for order in itertools.permutations(deeds):
+            board = board_of(order)
+            self.assertEqual(state_of(board.card("ann1")), (("bob", "Second", "", 3, "bob1"), "inbox", ["seen"]))
+            self.assertEqual(board.listed.all_words(), ["second"])
+            self.assertEqual(board.hung.answers_to("bob1"), ["ann1"])
+
+
 class DropTest(BoardCase):
 
     def test_a_drop_with_any_stamp(self):

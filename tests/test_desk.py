@@ -102,9 +102,10 @@ class FormsTest(DeskCase):
     def test_rows_of_no_form(self):
         desk = self.filled()
         for row in ("", " ", "   ", "\n", "\t", "ann", " ann ", "ann ann", "put", "put bob 5", "ann PUT bob 5",
-                    "ann Put bob 5", "ann puts bob 5", "ann sorts", "ann name ann1", "ann names", "ann take bob", "ann told",
-                    "ann have", "ann sort_anew ann1", "ann counts inbox", "ann mark\tann1 seen", "ann\nrules", "ann rules\n",
-                    "ann\tput bob 5", "ann folders\t", "ann letter ann1", "ann card ann1", "ann refused: x"):
+                    "ann Put bob 5", "ann puts bob 5", "ann sorts", "ann name ann1", "ann names", "ann take bob",
+                    "ann told", "ann have", "ann sort_anew ann1", "ann counts inbox", "ann mark\tann1 seen",
+                    "ann\nrules", "ann rules\n", "ann\tput bob 5", "ann folders\t", "ann letter ann1",
+                    "ann card ann1", "ann refused: x"):
             self.assert_refused(desk, row, NO_ROW)
 
     def test_a_tab_or_a_line_feed_stays_in_its_part(self):

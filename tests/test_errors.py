@@ -27,6 +27,10 @@ class ErrorsTest(unittest.TestCase):
             with self.subTest(name):
                 self.assertEqual(getattr(errors, name).__name__, name)
 
+    def test_each_tells_its_name(self):
+        for name in NAMES + ["MailError"]:
+            self.assertEqual(getattr(errors, name)("some words").refusal(), name)
+
     def test_each_is_raised_and_taken_as_any_of_its_bases(self):
         for name in NAMES:
             for base in (getattr(errors, name), errors.MailError, ValueError):

@@ -1,7 +1,8 @@
 import inspect
 import unittest
 
-from mailroom import cards, conditions, deeds, folders, index, ledgers, letters, reading, rules, threads, words
+from mailroom import boards, cards, conditions, deeds, desk, folders, index, ledgers, letters, reading, registers
+from mailroom import rooms, rules, threads, words
 
 ARGUMENTS = [
     (words.is_word, "(thing)"),
@@ -64,6 +65,43 @@ ARGUMENTS = [
     (ledgers.Ledger.have, "(self)"),
     (ledgers.Ledger.told, "(self, have=None)"),
     (ledgers.Ledger.take, "(self, parcel)"),
+    (registers.Registers, "()"),
+    (registers.Registers.keep, "(self, key, stamp, value)"),
+    (registers.Registers.get, "(self, key, default=None)"),
+    (registers.Registers.keys_of, "(self, first)"),
+    (boards.Board, "()"),
+    (boards.Board.show, "(self, stamped)"),
+    (boards.Board.names, "(self)"),
+    (boards.Board.letter_at, "(self, name)"),
+    (boards.Board.card, "(self, name)"),
+    (rooms.Room, "(hand)"),
+    (rooms.Room.put, "(self, sender, title, body, day, answers='')"),
+    (rooms.Room.place, "(self, name, folder)"),
+    (rooms.Room.mark, "(self, name, word, on=True)"),
+    (rooms.Room.drop, "(self, name)"),
+    (rooms.Room.sort_anew, "(self, name)"),
+    (rooms.Room.rules, "(self, text)"),
+    (rooms.Room.rules_written, "(self)"),
+    (rooms.Room.names, "(self)"),
+    (rooms.Room.letter_at, "(self, name)"),
+    (rooms.Room.folder, "(self, name)"),
+    (rooms.Room.marks, "(self, name)"),
+    (rooms.Room.card, "(self, name)"),
+    (rooms.Room.thread, "(self, name)"),
+    (rooms.Room.threads, "(self)"),
+    (rooms.Room.counts, "(self, folder)"),
+    (rooms.Room.folders, "(self)"),
+    (rooms.Room.marked, "(self, folder, word)"),
+    (rooms.Room.names_in, "(self, folder)"),
+    (rooms.Room.having, "(self, word)"),
+    (rooms.Room.find, "(self, text)"),
+    (rooms.Room.have, "(self)"),
+    (rooms.Room.told, "(self, have=None)"),
+    (rooms.Room.take, "(self, parcel)"),
+    (rooms.meet, "(one, other)"),
+    (desk.Desk, "()"),
+    (desk.Desk.say, "(self, row)"),
+    (desk.Desk.room, "(self, hand)"),
 ]
 TREES = [
     ("any",), ("word", "a"), ("title", "a"), ("from", "a"), ("day", 1, 2), ("in", "a"), ("marked", "a"), ("answers",),
