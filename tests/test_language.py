@@ -33,6 +33,9 @@ UNUSED_WORDS = """
 type typing typing_extensions enum Enum IntEnum StrEnum Flag IntFlag Generic Protocol ABC ABCMeta namedtuple NamedTuple
 TypedDict TYPE_CHECKING abstractmethod
 """.split()
+KEYWORDS = {"sorted": ["key", "reverse"], "min": ["key", "default"], "max": ["key", "default"], "sum": ["start"],
+            "enumerate": ["start"], "zip": ["strict"]}
+WALKERS = ["list", "tuple", "dict", "sorted", "sum", "any", "all", "enumerate", "zip", "min", "max"]
 PLAIN_NAME = re.compile("[A-Za-z][A-Za-z0-9_]*")
 
 
@@ -158,6 +161,64 @@ def local_faults(tree):
             yield f"L15: the local {node.id}"
 
 
+def parents_of(tree):
+    return {child: node for node in ast.walk(tree) for child in ast.iter_child_nodes(node)}
+
+
+def called(node):
+    """The name of what is called, if it is called by a name."""
+    return node.func.id if isinstance(node, ast.Call) and isinstance(node.func, ast.Name) else ""
+
+
+def keyword_faults(node):
+    """L22: keywords stand at some of Python's own names alone (at the program's own none is used)."""
+    if isinstance(node, ast.Call):
+        for keyword in node.keywords:
+            if keyword.arg not in KEYWORDS.get(called(node), []):
+                yield f"L22: the keyword {keyword.arg}"
+
+
+def walk_faults(node, parents):
+    """L23, L24: what is walked at once, and where a set stands."""
+    above = parents.get(node)
+    method = isinstance(node, ast.Call) and isinstance(node.func, ast.Attribute) and node.func.attr
+    if called(node) in ("zip", "enumerate", "reversed", "range") or method in ("items", "keys", "values"):
+        walked = isinstance(above, (ast.For, ast.comprehension)) and above.iter is node
+        if not walked and not (called(above) in WALKERS and above.args[0] is node):
+            yield "L23: not walked at once"
+    if called(node) in ("set", "frozenset") or isinstance(node, ast.Set):
+        while isinstance(above, ast.BinOp):
+            above = parents.get(above)
+        if not isinstance(above, ast.Compare) and not (called(above) in ("sorted", "len") and not above.keywords):
+            yield "L24: a set that is kept or walked"
+
+
+def handed_faults(node, parents):
+    """L25: a method of Python's own is called where it stands."""
+    if isinstance(node, ast.Attribute) and node.attr in OWN_METHODS and isinstance(node.ctx, ast.Load):
+        above = parents.get(node)
+        if not (isinstance(above, ast.Call) and above.func is node):
+            yield f"L25: the method {node.attr} is handed on"
+
+
+def kept_faults(tree):
+    """L15: lists and dicts of a file's top hold none themselves and are only read."""
+    kept = set()
+    for node in tree.body:
+        if isinstance(node, ast.Assign) and isinstance(node.value, (ast.List, ast.Dict)):
+            kept.add(node.targets[0].id)
+            if any(isinstance(part, (ast.List, ast.Dict)) for part in list(ast.walk(node.value))[1:]):
+                yield node, "L15: a list or dict within one of a file's top"
+    parents = parents_of(tree)
+    for node in ast.walk(tree):
+        if isinstance(node, ast.Name) and node.id in kept and isinstance(node.ctx, ast.Load):
+            above = parents[node]
+            read = isinstance(above, (ast.Compare, ast.For, ast.comprehension))
+            index = isinstance(above, ast.Subscript) and isinstance(above.ctx, ast.Load)
+            if not read and not index and called(above) not in ("len", "list", "dict", "sorted"):
+                yield node, f"L15: {node.id} is more than read"
+
+
 def size_faults(text, tree):
     """L10, L14: sizes and signs."""
     rows = text.split("\n")
@@ -191,13 +252,17 @@ def faults_of(text, package_names):
     tree = ast.parse(text)
     bound = set(bound_names(tree))
     told = list(size_faults(text, tree)) + list(local_faults(tree))
-    told.extend(f"{node.lineno}: {fault}" for node, fault in top_faults(tree))
+    told.extend(f"{node.lineno}: {fault}" for node, fault in list(top_faults(tree)) + list(kept_faults(tree)))
+    parents = parents_of(tree)
     for name in sorted(bound):
         told.extend(bound_faults(name))
     for node in ast.walk(tree):
         row = getattr(node, "lineno", 0)
         told.extend(f"{row}: {fault}" for fault in statement_faults(node))
         told.extend(f"{row}: {fault}" for fault in name_faults(node, bound, package_names))
+        told.extend(f"{row}: {fault}" for fault in keyword_faults(node))
+        told.extend(f"{row}: {fault}" for fault in walk_faults(node, parents))
+        told.extend(f"{row}: {fault}" for fault in handed_faults(node, parents))
     return told
 
 
@@ -274,6 +339,17 @@ class LanguageTest(unittest.TestCase):
                         with self.subTest(file=name, drawn=drawn.name):
                             self.assertIn(drawn.name, own)
 
+    def test_forms_of_the_language_are_taken(self):
+        for text in (
+            "def f(a):\n    return sorted(set(a))\n", "def f(a, b):\n    return len(set(a) - set(b))\n",
+            "def f(a, b):\n    return a in {b, a}\n", "def f(a):\n    return [b for b, c in a.items()]\n",
+            "def f(a):\n    return max([b for b in a], default=0)\n", "def f(a):\n    return list(range(a))\n",
+            "A = {1: (2, 3)}\n\n\ndef f(a):\n    return A[a][0] if a in A else dict(A)\n",
+            "def f(a):\n    for b, c in enumerate(a, start=1):\n        return (b, c)\n    return None\n",
+        ):
+            with self.subTest(text):
+                self.assertEqual(faults_of(text, set()), [])
+
     def test_forms_outside_the_language_are_seen(self):
         for text in (
             "import os\n", "from .words import is_word\n", "from mailroom.words import *\n", "A = 'a' + 'b'\n",
@@ -286,6 +362,12 @@ class LanguageTest(unittest.TestCase):
             "def f(a):\n    try:\n        return a[0]\n    except Exception:\n        return 0\n", "A = '\u00e4'\n",
             "class A:\n    pass\n\n\ndef f(A):\n    return A\n",
             "from mailroom.words import is_word\n\n\ndef f():\n    is_word = 1\n    return is_word\n",
+            "def f(a):\n    return sorted(a, default=0)\n", "def f(a, b):\n    return b(a=a)\n",
+            "def f(a):\n    b = set(a)\n    return b\n", "def f(a):\n    return [b for b in set(a)]\n",
+            "def f(a):\n    return sorted(set(a), key=len)\n", "def f(a):\n    return a.items()\n",
+            "def f(a):\n    b = range(a)\n    return b\n", "def f(a):\n    return a.get\n",
+            "A = [[1]]\n", "A = {1: [2]}\n", "A = [1]\n\n\ndef f():\n    return A\n",
+            "A = {1: 2}\n\n\ndef f():\n    A[1] = 3\n", "A = [1]\n\n\ndef f():\n    A.append(2)\n",
         ):
             with self.subTest(text):
                 self.assertNotEqual(faults_of(text, set()), [])
